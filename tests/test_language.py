@@ -1,0 +1,159 @@
+"""Looks the package's files through for the rules of LANGUAGE.md that can be told from the text alone."""
+
+import ast
+import builtins
+import re
+import unittest
+from pathlib import Path
+
+PACKAGE = Path(__file__).resolve().parent.parent / "heirbook"
+
+OWN_NAMES = set(
+    "len range enumerate zip min max sum abs sorted reversed int str bool list tuple dict set frozenset isinstance ord "
+    "repr any all divmod Exception ValueError TypeError KeyError IndexError LookupError ZeroDivisionError "
+    "ArithmeticError OverflowError RuntimeError NotImplementedError AttributeError StopIteration".split()
+)
+OWN_METHODS = set(
+    "append clear copy count endswith extend find get index insert isalnum isalpha isdigit islower isspace isupper "
+    "items join keys ljust lower lstrip partition pop remove replace reverse rfind rjust rpartition rsplit rstrip "
+    "setdefault split splitlines startswith strip update upper values zfill bit_length".split()
+)
+CLASS_METHODS = ("__init__", "__eq__", "__repr__", "__str__", "__len__")
+NODES = (
+    ast.Module, ast.Expr, ast.ImportFrom, ast.alias, ast.FunctionDef, ast.Lambda, ast.arguments, ast.arg, ast.ClassDef,
+    ast.Assign, ast.AugAssign, ast.If, ast.While, ast.For, ast.Return, ast.Break, ast.Continue, ast.Pass, ast.Raise,
+    ast.Try, ast.ExceptHandler, ast.Name, ast.Constant, ast.List, ast.Tuple, ast.Dict, ast.Set, ast.BinOp, ast.UnaryOp,
+    ast.BoolOp, ast.Compare, ast.IfExp, ast.Call, ast.keyword, ast.Attribute, ast.Subscript, ast.Slice, ast.ListComp,
+    ast.comprehension, ast.JoinedStr, ast.FormattedValue, ast.operator, ast.unaryop, ast.boolop, ast.cmpop,
+    ast.expr_context,
+)
+BARRED_WORDS = re.compile(
+    r"\b(type|typing|typing_extensions|enum|Enum|IntEnum|StrEnum|Flag|IntFlag|Generic|Protocol|ABC|ABCMeta|namedtuple"
+    r"|NamedTuple|TypedDict|TYPE_CHECKING|abstractmethod)\b|dataclass|overload|contextmanager"
+)
+BARRED_NAMES = set("register mro elements open input version_info with_traceback add_note".split())
+BARRED_ATTRIBUTES = BARRED_NAMES | {"format", "format_map", "sort", "args", "encode"}
+
+
+def files():
+    return sorted(path for path in PACKAGE.rglob("*") if path.is_file() and "__pycache__" not in path.parts)
+
+
+def nodes():
+    for path in files():
+        for node in ast.walk(ast.parse(path.read_text(encoding="utf-8"))):
+            yield f"{path.name}:{getattr(node, 'lineno', '?')}", node
+
+
+def own_methods():
+    return {part.name for where, node in nodes() if isinstance(node, ast.ClassDef)
+            for part in node.body if isinstance(part, ast.FunctionDef)}
+
+
+def bound_names(node):
+    if isinstance(node, ast.Name) and isinstance(node.ctx, ast.Store):
+        return [node.id]
+    if isinstance(node, ast.arg):
+        return [node.arg]
+    if isinstance(node, (ast.FunctionDef, ast.ClassDef)):
+        return [node.name]
+    if isinstance(node, ast.ExceptHandler) and node.name:
+        return [node.name]
+    return []
+
+
+class FilesTest(unittest.TestCase):
+    def test_names_signs_and_sizes(self):
+        self.assertIn(PACKAGE / "__init__.py", files())
+        for path in files():
+            self.assertRegex(path.name, r"\A([a-z][a-z0-9_]*|__init__|__main__)\.py\Z")
+            text = path.read_text(encoding="utf-8")
+            self.assertRegex(text, r"\A[\n -~]*\Z", path.name)
+            self.assertLessEqual(len(text.splitlines()), 400, path.name)
+            self.assertIsNone(BARRED_WORDS.search(text), path.name)
+            for row in text.splitlines():
+                self.assertLessEqual(len(row), 120, path.name)
+
+    def test_the_top_of_a_module(self):
+        for path in files():
+            for number, node in enumerate(ast.parse(path.read_text(encoding="utf-8")).body):
+                docstring = number == 0 and isinstance(node, ast.Expr) and isinstance(node.value, ast.Constant)
+                plain = isinstance(node, (ast.ImportFrom, ast.FunctionDef, ast.ClassDef, ast.Assign))
+                self.assertTrue(docstring or plain, f"{path.name}:{node.lineno}")
+
+
+class NodesTest(unittest.TestCase):
+    def test_only_the_small_part(self):
+        for where, node in nodes():
+            self.assertIsInstance(node, NODES, where)
+            self.assertNotIsInstance(node, (ast.Div, ast.MatMult), where)
+            if isinstance(node, ast.Constant):
+                self.assertNotIsInstance(node.value, (float, complex, bytes), where)
+                self.assertNotIn("%", str(node.value), where)
+
+    def test_imports(self):
+        for where, node in nodes():
+            if isinstance(node, ast.ImportFrom):
+                self.assertEqual(node.level, 0, where)
+                self.assertRegex(node.module, r"\Aheirbook\.", where)
+                self.assertNotIn("*", [part.name for part in node.names], where)
+
+    def test_defs_and_classes(self):
+        for where, node in nodes():
+            if isinstance(node, ast.FunctionDef):
+                self.assertLessEqual(node.end_lineno - node.lineno + 1, 40, where)
+            if isinstance(node, (ast.FunctionDef, ast.ClassDef)):
+                self.assertEqual(node.decorator_list, [], where)
+            if isinstance(node, ast.arguments):
+                self.assertEqual((node.vararg, node.kwarg, node.kwonlyargs, node.posonlyargs), (None, None, [], []), where)
+            if isinstance(node, ast.ClassDef):
+                self.assertLessEqual(len(node.bases) + len(node.keywords), 1, where)
+
+    def test_statements(self):
+        for where, node in nodes():
+            if isinstance(node, ast.Assign):
+                self.assertEqual(len(node.targets), 1, where)
+            if isinstance(node, (ast.For, ast.While)):
+                self.assertEqual(node.orelse, [], where)
+            if isinstance(node, ast.Try):
+                self.assertEqual(node.finalbody, [], where)
+            if isinstance(node, ast.ListComp):
+                self.assertEqual(len(node.generators), 1, where)
+                self.assertLessEqual(len(node.generators[0].ifs), 1, where)
+
+    def test_is_stands_beside_none_and_truths(self):
+        for where, node in nodes():
+            if isinstance(node, ast.Compare):
+                for operator, right in zip(node.ops, node.comparators):
+                    if isinstance(operator, (ast.Is, ast.IsNot)):
+                        self.assertIsInstance(right, ast.Constant, where)
+                        self.assertIn(right.value, (None, True, False), where)
+
+
+class NamesTest(unittest.TestCase):
+    def test_bound_names_are_plain(self):
+        for where, node in nodes():
+            for name in bound_names(node):
+                if name not in CLASS_METHODS:
+                    self.assertRegex(name, r"\A[A-Za-z][A-Za-z0-9_]*\Z", where)
+                    self.assertNotIn(name, BARRED_NAMES, where)
+
+    def test_python_s_own_names(self):
+        methods = own_methods()
+        for where, node in nodes():
+            if isinstance(node, ast.Name):
+                self.assertTrue(node.id in OWN_NAMES or not hasattr(builtins, node.id), f"{where} {node.id}")
+            for name in bound_names(node):
+                self.assertTrue(name in methods or not hasattr(builtins, name), f"{where} {name}")
+
+    def test_methods(self):
+        known = OWN_METHODS | own_methods() | set(CLASS_METHODS) | {"add", "discard"}
+        for where, node in nodes():
+            if isinstance(node, ast.Attribute):
+                self.assertNotIn(node.attr, BARRED_ATTRIBUTES, where)
+            if isinstance(node, ast.Call) and isinstance(node.func, ast.Attribute):
+                self.assertIn(node.func.attr, known, where)
+
+
+if __name__ == "__main__":
+    unittest.main()

@@ -1,4 +1,4 @@
-"""What is a name, a day, an amount, a sort, and an entry of a book; each is asked of anything."""
+"""What is a name, a day, an amount, a sort and an entry, asked of anything; and what an entry names, and its day."""
 
 from heirbook.ratios import is_whole
 
@@ -52,3 +52,43 @@ def is_entry(thing):
         if thing[0] == word:
             return has_form(thing[1:], checks)
     return False
+
+
+def is_tie(entry):
+    """Whether an entry is of the union of two: that it begins, or that it ends."""
+    return entry[0] in ("union", "parted")
+
+
+def named_in(entry):
+    """Those who must have a birth for the entry to be let in."""
+    if entry[0] == "born":
+        return [name for name in entry[4:] if name != ""]
+    if entry[0] == "dead":
+        return [entry[1]]
+    return [entry[1], entry[2]]
+
+
+def day_of(entry):
+    if entry[0] == "born":
+        return entry[3]
+    return entry[-1]
+
+
+def as_told(entry):
+    """The entry as a book tells it: of a union or parting the name first that comes first."""
+    if not is_tie(entry):
+        return entry
+    names = sorted(entry[1:3])
+    return (entry[0], names[0], names[1], entry[3])
+
+
+def key_of(entry):
+    """What no two entries of one book share."""
+    if entry[0] in ("born", "dead"):
+        return (entry[0], entry[1])
+    if entry[0] == "taken":
+        return (entry[0], entry[1], entry[2])
+    if entry[0] == "given":
+        return (entry[0], entry[1], entry[2], entry[4])
+    # One word for both: on one day two have a union or a parting, never both.
+    return ("tie",) + as_told(entry)[1:]

@@ -62,6 +62,28 @@ def bound_names(node):
     return []
 
 
+def imports_of(path):
+    """Pairs of the file that is drawn from and the name."""
+    tree = ast.parse(path.read_text(encoding="utf-8"))
+    return [(node.module.split(".")[1] + ".py", part.asname or part.name)
+            for node in tree.body if isinstance(node, ast.ImportFrom) for part in node.names]
+
+
+def defined_in(path):
+    """The names that a file's top gives itself, each as often as it does."""
+    names = []
+    for node in ast.parse(path.read_text(encoding="utf-8")).body:
+        if isinstance(node, (ast.FunctionDef, ast.ClassDef)):
+            names.append(node.name)
+        if isinstance(node, ast.Assign):
+            names.extend(target.id for target in node.targets)
+    return names
+
+
+def values_of_objects():
+    return {node.attr for where, node in nodes() if isinstance(node, ast.Attribute) and isinstance(node.ctx, ast.Store)}
+
+
 class FilesTest(unittest.TestCase):
     def test_names_signs_and_sizes(self):
         self.assertIn(PACKAGE / "__init__.py", files())
@@ -80,6 +102,31 @@ class FilesTest(unittest.TestCase):
                 docstring = number == 0 and isinstance(node, ast.Expr) and isinstance(node.value, ast.Constant)
                 plain = isinstance(node, (ast.ImportFrom, ast.FunctionDef, ast.ClassDef, ast.Assign))
                 self.assertTrue(docstring or plain, f"{path.name}:{node.lineno}")
+
+
+    def test_each_name_once_and_from_the_file_that_defines_it(self):
+        for path in files():
+            names = defined_in(path) + [name for drawn, name in imports_of(path)]
+            self.assertEqual(len(names), len(set(names)), path.name)
+            for drawn, name in imports_of(path):
+                self.assertIn(name, defined_in(PACKAGE / drawn), path.name)
+
+    def test_no_two_files_draw_from_one_another(self):
+        drawn = {path.name: {name for name, part in imports_of(path)} for path in files()}
+        for turn in drawn:
+            for name in drawn:
+                drawn[name] = drawn[name].union(*[drawn[other] for other in drawn[name]])
+        for name in drawn:
+            self.assertNotIn(name, drawn[name])
+
+    def test_no_local_is_called_like_a_class_or_an_import(self):
+        for path in files():
+            tree = ast.parse(path.read_text(encoding="utf-8"))
+            barred = {name for drawn, name in imports_of(path)}
+            barred |= {node.name for node in tree.body if isinstance(node, ast.ClassDef)}
+            for node in ast.walk(tree):
+                if not isinstance(node, ast.ClassDef):
+                    self.assertEqual(set(bound_names(node)) & barred, set(), path.name)
 
 
 class NodesTest(unittest.TestCase):
@@ -145,6 +192,12 @@ class NamesTest(unittest.TestCase):
                 self.assertTrue(node.id in OWN_NAMES or not hasattr(builtins, node.id), f"{where} {node.id}")
             for name in bound_names(node):
                 self.assertTrue(name in methods or not hasattr(builtins, name), f"{where} {name}")
+
+    def test_own_methods_and_values(self):
+        taken = {name for kind in (str, int, list, dict, set, frozenset, bytes) for name in dir(kind)}
+        self.assertEqual((own_methods() - set(CLASS_METHODS)) & (taken - OWN_METHODS - {"add", "discard"}), set())
+        self.assertEqual(values_of_objects() & taken, set())
+        self.assertEqual(values_of_objects() & own_methods(), set())
 
     def test_methods(self):
         known = OWN_METHODS | own_methods() | set(CLASS_METHODS) | {"add", "discard"}

@@ -13,11 +13,6 @@ def pair_of(one, other):
     return (min(one, other), max(one, other))
 
 
-def births_first(entry):
-    """Puts entries in an order in which each finds those whom it names in the book."""
-    return (0 if entry[0] == "born" else 1, day_of(entry))
-
-
 class Book:
     def __init__(self):
         # All entries, by what no two of them share; the rest is read off them when one is let in.
@@ -134,7 +129,8 @@ class Book:
 
     def until(self, day):
         book = Book()
-        for entry in sorted(self.kept.values(), key=births_first):
+        # In the order in which they were let in each entry finds those whom it names: no birth of theirs is later.
+        for entry in self.kept.values():
             if day_of(entry) <= day:
                 book.put(entry)
         return book

@@ -1,5 +1,7 @@
 """A plain, slow reading of the document over lists of entries, apart from the program's own."""
 
+import copy
+
 LETTERS = ("F", "M", "T", "f", "m", "t", "S")
 TESTS = ("he", "she")
 STEPS = LETTERS + TESTS
@@ -107,9 +109,9 @@ def all_told(entries):
 
 
 def all_of(book, days):
-    """All that a book tells, asked of the book."""
-    people = book.people()
-    return {
+    """All that a book tells, asked of the book; copied, so that it stays as it was told now."""
+    people = list(book.people())
+    return copy.deepcopy({
         "entries": book.entries(),
         "people": people,
         "sorts": [book.sort_of(name) for name in people],
@@ -118,7 +120,7 @@ def all_of(book, days):
         "stands": [book.stands(one, other, day) for one in people for other in people for day in days],
         "gave": [book.gave(one, other) for one in people for other in people],
         "steps": [book.step(letter, name) for letter in LETTERS for name in people],
-    }
+    })
 
 
 def days_around(entries):

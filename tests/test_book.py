@@ -133,6 +133,15 @@ class NoEntryTest(BookCase):
             self.assert_refused(book, wrong, "NoEntry")
 
 
+    def test_ahead_of_no_person_twice_and_no_fit(self):
+        book = book_with(FOUR + MORE)
+        for thing in (["dead", "zed", 30], ("dead", "zed", 30.0), ("born", "eve", "it", 30, "zed", ""), list(ANN), list(MORE[2]),
+                      ("born", "ann", "she", 0, "", None), ("dead", "ann", True), ("given", "ann", "bob", 0, 40),
+                      ["union", "ann", "ann", 30], ("taken", "ann", "ann", "30"), ("dead", "ann", FIRST - 1),
+                      ("born", "eve", "", FIRST - 1, "bob", "ann"), ("union", "zed", "zed", LAST + 1)):
+            self.assert_refused(book, thing, "NoEntry")
+
+
 class FullTest(BookCase):
     def test_60_people(self):
         book = crowd(59)

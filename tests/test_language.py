@@ -164,6 +164,9 @@ class NodesTest(unittest.TestCase):
                 self.assertEqual(node.orelse, [], where)
             if isinstance(node, ast.Try):
                 self.assertEqual(node.finalbody, [], where)
+            if isinstance(node, ast.FormattedValue):
+                self.assertIsInstance(node.value, ast.Name, where)
+                self.assertIsNone(node.format_spec, where)
             if isinstance(node, ast.ListComp):
                 self.assertEqual(len(node.generators), 1, where)
                 self.assertLessEqual(len(node.generators[0].ifs), 1, where)

@@ -6,19 +6,19 @@ from heirbook.walks import trail
 
 def who(book, tongue, word, name):
     # Asked for the refusals alone, the word's ahead of the name's.
-    tongue.parts(word)
+    tongue.row_of(word)
     book.born_on(name)
-    return tongue.table_of(book, tongue.needed_for(word))[word][name]
+    return tongue.led(book, {}, word, name)
 
 
 def joins(book, tongue, word, one, other):
     parts = tongue.row_of(word)
     book.born_on(one)
     book.born_on(other)
-    table = tongue.table_of(book, tongue.needed_for(word))
+    table = {}
     for number, part in enumerate(parts):
         if keeps_mark(book, part[1], one, other):
-            names = trail(one, other, part[0], lambda piece, begin: piece.leads_one(book, table, begin))
+            names = trail(one, other, part[0], lambda piece, begin: tongue.led_by_piece(book, table, piece, [begin]))
             if names is not None:
                 return (number, names)
     return None
@@ -29,8 +29,8 @@ def kin(book, tongues, one, other):
     book.born_on(other)
     pairs = []
     for number, tongue in enumerate(tongues):
-        table = tongue.table(book)
+        table = {}
         for word in tongue.words():
-            if other in table[word][one]:
+            if other in tongue.led(book, table, word, one):
                 pairs.append((number, word))
     return pairs

@@ -66,21 +66,6 @@ def keeps_mark(book, mark, one, other):
     return True
 
 
-def led_by_part(book, table, part, name):
-    names = [name]
-    for piece in part[0]:
-        names = piece.leads(book, table, names)
-    return [other for other in names if keeps_mark(book, part[1], name, other)]
-
-
-def led_by_parts(book, table, parts, name):
-    found = {}
-    for part in parts:
-        for other in led_by_part(book, table, part, name):
-            found[other] = True
-    return sorted(found)
-
-
 def said_in(parts):
     """The words that parts say."""
     words = []
@@ -119,15 +104,33 @@ class Tongue:
                     needed[said] = True
         return [row for row in self.rows if row in needed]
 
-    def table(self, book):
-        return self.table_of(book, self.words())
+    def led(self, book, table, word, name):
+        """Whom the word leads to from a person; the table keeps all that was found for it, for the next question."""
+        known = table.setdefault(word, {})
+        if name not in known:
+            found = {}
+            for part in self.rows[word]:
+                for other in self.led_by_part(book, table, part, name):
+                    found[other] = True
+            known[name] = sorted(found)
+        return known[name]
 
-    def table_of(self, book, words):
-        """The table of these words alone; what they say is among them."""
+    def led_by_part(self, book, table, part, name):
+        names = [name]
+        for piece in part[0]:
+            names = self.led_by_piece(book, table, piece, names)
+        return [other for other in names if keeps_mark(book, part[1], name, other)]
+
+    def led_by_piece(self, book, table, piece, names):
+        if isinstance(piece, Said):
+            for name in names:
+                self.led(book, table, piece.word, name)
+        return piece.leads(book, table, names)
+
+    def table(self, book):
         table = {}
-        for word in words:
-            led = {}
+        for word in self.rows:
+            table[word] = {}
             for name in book.people():
-                led[name] = led_by_parts(book, table, self.rows[word], name)
-            table[word] = led
+                self.led(book, table, word, name)
         return table

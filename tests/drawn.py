@@ -81,6 +81,14 @@ def refused(asked):
     return None
 
 
+def answer(asked):
+    """What is told, or the name of the refusal."""
+    try:
+        return asked()
+    except HeirError as refusal:
+        return type(refusal).__name__
+
+
 def drawn_way(chance, length):
     """A way with many steps out and back."""
     steps = []

@@ -1,8 +1,10 @@
-"""A plain reading of stages 7 to 9 over lists of entries, apart from the program's own; parts are Fractions here.
+"""A plain reading of stages 7 to 10 over lists of entries, apart from the program's own; parts are Fractions here.
 
 A code is a dict here: spouse, stand (words or empty texts), classes (word, how, share), alone, ahead, apart.
 """
 
+import functools
+import itertools
 import random
 from fractions import Fraction
 
@@ -64,8 +66,9 @@ def drawn_house(number, people=9, deaths=5):
         entry = ("dead", chance.choice(names), chance.randrange(4, 17))
         if plain.refusal(entries, entry) is None:
             entries.append(entry)
-    for turn in range(8):
-        entry = ("given", chance.choice(names), chance.choice(names), chance.randrange(1, 9), chance.randrange(10, 20))
+    for turn in range(20):
+        giver = chance.choice(sorted(dead_of(entries)) or names)
+        entry = ("given", giver, chance.choice(names), chance.randrange(1, 9), chance.randrange(6, 17))
         if plain.refusal(entries, entry) is None:
             entries.append(entry)
     return entries
@@ -87,16 +90,22 @@ def as_tuples(told):
     return {name: as_tuple(part) for name, part in told.items()}
 
 
+@functools.lru_cache(maxsize=64)
+def until(entries, day):
+    """The entries until a day, and a reading of them; kept, as it is asked for again and again."""
+    some = [entry for entry in entries if plain.day_of(entry) <= day]
+    return some, Reading(some, ROWS)
+
+
 class Sharing:
     """What one dead person leaves."""
 
-    def __init__(self, entries, code, name, living=None, rows=ROWS):
+    def __init__(self, entries, code, name, living=None):
         self.code, self.name = code, name
         day = dead_of(entries)[name]
-        self.entries = [entry for entry in entries if plain.day_of(entry) <= day]
+        self.entries, self.reading = until(tuple(entries), day)
         self.born = plain.births(self.entries)
         self.people = sorted(self.born)
-        self.reading = Reading(self.entries, rows)
         wanted = [one for one in self.people if one not in dead_of(self.entries)] if living is None else living
         self.living = [one for one in self.people if one in wanted and one != name]
         self.known = {}
@@ -163,3 +172,63 @@ class Sharing:
 
     def shares(self):
         return self.passed(self.first())[0]
+
+
+def lacks(level, gifts):
+    """What each gift lacks to the level."""
+    return [max(level - gift, Fraction(0)) for gift in gifts]
+
+
+def level_of(amount, gifts):
+    """9.1: of all that some gifts and the amount come to on even terms, the one whose lacks are the amount."""
+    if amount == 0:
+        return Fraction(min(gifts))
+    found = {(amount + sum(sorted(gifts)[:count])) / count for count in range(1, len(gifts) + 1)}
+    level, = [one for one in found if sum(lacks(one, gifts)) == amount]
+    return level
+
+
+def parts(entries, code, name, amount, living=None):
+    """9.2."""
+    sharing = Sharing(entries, code, name, living)
+    chosen = sharing.chosen()
+    dues = None
+    if code["ahead"] and chosen is not None and code["classes"][chosen][1] == "lines":
+        gifts = [plain.gave(sharing.entries, name, one) for one in sharing.takers(chosen)]
+        has = amount * (1 - sharing.for_spouses())
+        dues = lacks(level_of(has, gifts), gifts)
+    return sharing.passed(sharing.first(amount, dues))[0]
+
+
+def after(entries, code, order, held, living):
+    """10.2: what is held when those of the order have died one after another; living is told for each of them."""
+    held = dict(held)
+    for name in order:
+        came = parts(entries, code, name, held.pop(name, Fraction(0)), living[name])
+        for one, part in came.items():
+            held[one] = held.get(one, 0) + part
+    return {one: held[one] for one in sorted(held) if held[one] > 0}
+
+
+def after_order(entries, code, order, held):
+    """One order of a night, where the code does not hold its dead apart."""
+    day = dead_of(entries)[order[0]]
+    alive = [one for one in plain.births(entries) if dead_of(entries).get(one, day + 1) > day]
+    return after(entries, code, order, held, {one: alive + list(order[number + 1:]) for number, one in enumerate(order)})
+
+
+def settled(entries, code, holdings):
+    """10.3: the holdings in the end; or "TooMany"; or the day of a night that is unsure and what was held before it."""
+    held = {one: holdings[one] for one in sorted(holdings) if holdings[one] > 0}
+    for day in sorted(set(dead_of(entries).values())):
+        night = sorted(one for one, died in dead_of(entries).items() if died == day)
+        if code["apart"] or len(night) == 1:
+            held = after(entries, code, night, held, dict.fromkeys(night))
+            continue
+        if len(night) > 4:
+            return "TooMany"
+        ends = [after_order(entries, code, order, held) for order in itertools.permutations(night)]
+        if any(end != ends[0] for end in ends):
+            return day, held
+        held = ends[0]
+    return held

@@ -103,7 +103,6 @@ class FilesTest(unittest.TestCase):
                 plain = isinstance(node, (ast.ImportFrom, ast.FunctionDef, ast.ClassDef, ast.Assign))
                 self.assertTrue(docstring or plain, f"{path.name}:{node.lineno}")
 
-
     def test_each_name_once_and_from_the_file_that_defines_it(self):
         for path in files():
             names = defined_in(path) + [name for drawn, name in imports_of(path)]
@@ -178,6 +177,69 @@ class NodesTest(unittest.TestCase):
                     if isinstance(operator, (ast.Is, ast.IsNot)):
                         self.assertIsInstance(right, ast.Constant, where)
                         self.assertIn(right.value, (None, True, False), where)
+
+
+def with_parents():
+    """Each node with the one it stands in."""
+    for path in files():
+        for parent in ast.walk(ast.parse(path.read_text(encoding="utf-8"))):
+            for node in ast.iter_child_nodes(parent):
+                yield f"{path.name}:{getattr(node, 'lineno', '?')}", parent, node
+
+
+def called(node):
+    """The name of the function or method that a call calls, else None."""
+    if not isinstance(node, ast.Call):
+        return None
+    return node.func.id if isinstance(node.func, ast.Name) else getattr(node.func, "attr", None)
+
+
+class ValuesTest(unittest.TestCase):
+    def test_lists_and_dicts_of_a_file_s_top_hold_no_lists_and_dicts(self):
+        for path in files():
+            for node in ast.parse(path.read_text(encoding="utf-8")).body:
+                if isinstance(node, ast.Assign):
+                    inner = [part for part in ast.walk(node.value) if part is not node.value]
+                    self.assertFalse([part for part in inner if isinstance(part, (ast.List, ast.Dict, ast.Set))], path.name)
+                    self.assertFalse([part for part in inner + [node.value] if isinstance(part, ast.Call)], path.name)
+
+    def test_walked_at_once(self):
+        walkers = {"list", "tuple", "dict", "sorted", "sum", "any", "all", "enumerate", "zip", "min", "max", "join"}
+        for where, parent, node in with_parents():
+            if called(node) in ("zip", "enumerate", "reversed", "range", "items", "keys", "values"):
+                walked = isinstance(parent, (ast.For, ast.comprehension)) and parent.iter is node
+                self.assertTrue(walked or (called(parent) in walkers and parent.args[0] is node), where)
+
+    def test_sets(self):
+        for where, parent, node in with_parents():
+            self.assertNotIsInstance(node, ast.Set, where)
+            if called(node) in ("set", "frozenset"):
+                self.assertTrue(called(parent) in ("len", "sorted") or isinstance(parent, ast.Compare), where)
+
+    def test_keywords_and_errors(self):
+        for where, node in nodes():
+            if isinstance(node, ast.Call):
+                for keyword in node.keywords:
+                    self.assertIn((called(node), keyword.arg), (("sorted", "key"), ("min", "key"), ("max", "key")), where)
+            if isinstance(node, ast.Raise):
+                self.assertIsInstance(node.exc, ast.Call, where)
+            if isinstance(node, ast.ExceptHandler):
+                self.assertIsInstance(node.type, ast.Name, where)
+                self.assertNotIn(node.type.id, ("Exception", "TypeError", "ValueError", "LookupError", "IndexError"), where)
+
+    def test_methods_are_called_where_they_stand(self):
+        methods = OWN_METHODS | own_methods()
+        for where, parent, node in with_parents():
+            if isinstance(node, ast.Attribute) and node.attr in methods:
+                self.assertTrue(isinstance(parent, ast.Call) and parent.func is node, f"{where} {node.attr}")
+
+    def test_classes_are_called_or_asked_for(self):
+        classes = {node.name for where, node in nodes() if isinstance(node, ast.ClassDef)}
+        for where, parent, node in with_parents():
+            if isinstance(node, ast.Name) and node.id in classes:
+                base = isinstance(parent, (ast.ClassDef, ast.ExceptHandler))
+                call = isinstance(parent, ast.Call) and (parent.func is node or called(parent) == "isinstance")
+                self.assertTrue(base or call, where)
 
 
 class NamesTest(unittest.TestCase):
